@@ -1,7 +1,6 @@
 package field
 
 import (
-	"math/bits"
 	"strings"
 
 	"culet/api"
@@ -55,45 +54,27 @@ func sign(c [4]api.Int) int {
 	}
 }
 
-// wide is an integer of 128 bits in two's complement.
-type wide struct{ hi, lo uint64 }
-
-func (w wide) add(x, y int) wide {
-	hi, lo := bits.Mul64(uint64(x), uint64(y))
-	if x < 0 {
-		hi -= uint64(y)
-	}
-	if y < 0 {
-		hi -= uint64(x)
-	}
-	carry := uint64(0)
-	w.lo, carry = bits.Add64(w.lo, lo, 0)
-	w.hi += hi + carry
-	return w
-}
-
-// fastSign decides the sign in fixed-point numbers, if this is possible.
+// fastSign decides the sign in fixed-point numbers, if this is possible. Of long coefficients, only the first bytes count.
 func fastSign(c [4]api.Int) (int, bool) {
 	roots := [4]int{unit, fast2, fast3, fast6}
-	value, slack := wide{}, 0
-	for i, x := range c {
-		if len(x.Mag) > 7 {
-			return 0, false
-		}
-		if x.Mag == "" {
-			continue
-		}
-		n, _ := bigint.Int64(x)
-		value = value.add(n, roots[i])
-		if i > 0 {
-			slack += max(n, -n)
-		}
+	cutOff := 0
+	for _, x := range c {
+		cutOff = max(cutOff, len(x.Mag)-wideBytes)
 	}
-	positive, negative := value.add(slack, -1), value.add(slack, 1)
+	value, slack := wide{}, wide{}
+	if cutOff > 0 {
+		// Each coefficient lost less than 1, and the sum of 1 and all roots is less than 7.
+		slack = slack.add(unit, 7)
+	}
+	for i, x := range c {
+		n := leading(x, cutOff)
+		value = value.add(n, roots[i])
+		slack = slack.add(max(n, -n), 1)
+	}
 	switch {
-	case int64(positive.hi) >= 0 && positive != (wide{}):
+	case slack.less(value):
 		return 1, true
-	case int64(negative.hi) < 0:
+	case slack.less(value.opposite()):
 		return -1, true
 	}
 	return 0, false
