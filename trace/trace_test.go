@@ -160,8 +160,9 @@ func plain(b Body, r Ray) (int, api.Interval, api.Errno) {
 func TestHit(t *testing.T) { // P31.1, P31.2
 	r := rand.New(rand.NewSource(1))
 	seen := map[api.Errno]int{}
+	bodies := []Body{cube(t, 20), brilliant(t, 15)}
 	for i := range 3000 {
-		b := []Body{cube(t, 20), brilliant(t, 15)}[i/100%2]
+		b := bodies[i/100%2]
 		x := ray(r, []int{0, one / 100, one}[i%3])
 		face, length, e := Hit(b, x)
 		wf, wl, we := plain(b, x)
