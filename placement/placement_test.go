@@ -96,7 +96,7 @@ func TestFits(t *testing.T) { // P43.1, P43.6
 		s     api.Solid
 		e     api.Errno
 		first int
-	}{{block(1), api.OK, -1}, {shifted(block(1), "(2, 2, 2)"), api.ErrRange, 2}, {shifted(block(1), "(3, 0, 0)"), api.ErrRange, -1}, {shifted(block(1), "(0, 0, -1)"), api.ErrOverlap, 1}, {shifted(block(1), "(-2, -2, -2)"), api.ErrOverlap, 0}, {block(2), api.ErrRange, 0}, {shifted(block(1), "(0, 3/2, 0)"), api.ErrOverlap, 2}} {
+	}{{block(1), api.OK, -1}, {shifted(block(1), "(2, 2, 2)"), api.ErrRange, 2}, {shifted(block(1), "(3, 0, 0)"), api.ErrRange, -1}, {shifted(block(1), "(0, 0, -1)"), api.ErrOverlap, 1}, {shifted(block(1), "(-2, -2, -2)"), api.ErrOverlap, 0}, {block(2), api.ErrRange, 0}, {shifted(block(1), "(0, 3/2, -1)"), api.ErrOverlap, 2}} {
 		e := Fits(crystal, flaws, c.s)
 		first, e2 := First(crystal, flaws, c.s)
 		want := slices.IndexFunc(flaws, func(f api.Solid) bool { return !separate.Disjoint(f, c.s) })
