@@ -2,6 +2,7 @@ package solid
 
 import (
 	"math/bits"
+	"slices"
 
 	"culet/api"
 	"culet/bigint"
@@ -254,16 +255,20 @@ func corners(planes []api.Plane) ([]ray, api.Errno) {
 			continue
 		}
 		if !b.cut(i) {
-			if closed(b.halves) {
+			// If what was there before this cut is bounded, the planes so far are closed already.
+			if b.bounded() || closed(b.halves) {
 				return nil, api.ErrEmpty
 			}
 			return nil, api.ErrOpen
 		}
 	}
-	for _, r := range b.rays {
-		if r.on.has(infinity) {
-			return nil, api.ErrOpen
-		}
+	if !b.bounded() {
+		return nil, api.ErrOpen
 	}
 	return b.rays, api.OK
+}
+
+// bounded reports whether no ray leads to infinity.
+func (b *builder) bounded() bool {
+	return !slices.ContainsFunc(b.rays, func(r ray) bool { return r.on.has(infinity) })
 }
