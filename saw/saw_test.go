@@ -128,7 +128,7 @@ func separable(l []api.Solid, planes []api.Plane) bool {
 	for _, p := range planes {
 		a, b, ok := []api.Solid{}, []api.Solid{}, true
 		for _, s := range l {
-			switch side, _ := Place(s, p); side {
+			switch place(s, p) {
 			case -1:
 				a = append(a, s)
 			case 1:
