@@ -145,6 +145,23 @@ func TestLargeProducts(t *testing.T) { // P1.2: products of halves
 	}
 }
 
+func TestLargeTextsAndRoots(t *testing.T) { // P1.6, P1.8
+	r := rand.New(rand.NewSource(5))
+	for _, n := range []uint{63, 64, 65, 127, 1000, 4096, 5000, 20000, 20001} {
+		top := new(big.Int).Lsh(big.NewInt(1), n)
+		for _, x := range []*big.Int{top, new(big.Int).Sub(top, big.NewInt(1)), new(big.Int).Rand(r, top), new(big.Int).Exp(big.NewInt(10), big.NewInt(int64(n/3)), nil)} {
+			if s := Print(fromBig(x)); s != x.String() {
+				t.Fatalf("P1.8: %d bits: %.50s", n, s)
+			}
+			root, e := Sqrt(fromBig(x))
+			if e != api.OK {
+				t.Fatal(e)
+			}
+			same(t, "Sqrt", root, new(big.Int).Sqrt(x))
+		}
+	}
+}
+
 func TestWords(t *testing.T) { // P1.5
 	r := rand.New(rand.NewSource(4))
 	for range 2000 {

@@ -215,23 +215,33 @@ func difference(a digits, x uint64, b digits, y uint64) digits {
 	return trim(l)
 }
 
-// rootMag approaches the root from above by Newton's method.
+// rootMag returns the square root, rounded down.
 func rootMag(mag string) string {
-	if mag == "" {
-		return ""
+	return join(root(split(mag)))
+}
+
+// root approaches the root from above by Newton's method, beginning with that of the higher half of the digits.
+func root(a digits) digits {
+	if len(a) == 0 {
+		return nil
 	}
-	a := split(mag)
+	low := len(a) / 4
 	start := make(digits, len(a)/2+2)
-	bitCount := 64*len(a) - bits.LeadingZeros64(a[len(a)-1])
-	half := (bitCount + 1) / 2
-	start[half/64] = 1 << (half % 64)
-	root := trim(start)
+	if low == 0 {
+		bitCount := 64*len(a) - bits.LeadingZeros64(a[len(a)-1])
+		half := (bitCount + 1) / 2
+		start[half/64] = 1 << (half % 64)
+	} else {
+		addAt(start, root(a[2*low:]), low)
+		addAt(start, digits{1}, low)
+	}
+	now := trim(start)
 	for {
-		q, _ := divide(a, root)
-		next := unshift(sum(q, root), 1)
-		if compare(next, root) >= 0 {
-			return join(root)
+		q, _ := divide(a, now)
+		next := unshift(sum(q, now), 1)
+		if compare(next, now) >= 0 {
+			return now
 		}
-		root = next
+		now = next
 	}
 }

@@ -25,19 +25,28 @@ func Print(a api.Int) string {
 	if len(a.Mag) <= 8 {
 		return sign + strconv.FormatUint(word(a.Mag), 10)
 	}
-	groups := []string{}
-	for l := split(a.Mag); len(l) > 0; l = trim(l) {
-		groups = append(groups, strconv.FormatUint(divideWord(l, group), 10))
-	}
 	var b strings.Builder
 	b.WriteString(sign)
-	for i := len(groups) - 1; i >= 0; i-- {
-		if i < len(groups)-1 {
-			b.WriteString(strings.Repeat("0", groupDigits-len(groups[i])))
-		}
-		b.WriteString(groups[i])
-	}
+	b.WriteString(strings.TrimLeft(decimals(split(a.Mag)), "0"))
 	return b.String()
+}
+
+// decimals returns decimal digits, perhaps with zeros at the beginning. Long numbers are divided into halves.
+func decimals(l digits) string {
+	power, places := digits{group}, groupDigits
+	if len(l) <= len(power) {
+		text := strconv.FormatUint(word(join(l)), 10)
+		return strings.Repeat("0", max(0, groupDigits-len(text))) + text
+	}
+	for 3*len(power) < len(l) {
+		power, places = multiply(power, power), 2*places
+	}
+	high, low := divide(l, power)
+	text := decimals(low)
+	if len(text) > places {
+		text = text[len(text)-places:]
+	}
+	return decimals(high) + strings.Repeat("0", places-len(text)) + text
 }
 
 // Parse returns the integer with a text.
