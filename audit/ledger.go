@@ -28,11 +28,11 @@ func rightParcel(l []api.Piece) (map[string]api.Piece, bool) {
 	return pieces, len(l) <= parcel.MaxPieces
 }
 
-// book keeps the pieces that are there by their identifiers.
-type book map[string]api.Piece
+// ledger keeps the pieces that are there by their identifiers.
+type ledger map[string]api.Piece
 
 // enter carries out an entry with just the fields of its kind, if it is possible and permitted.
-func (b book) enter(x parcel.Entry) bool {
+func (b ledger) enter(x parcel.Entry) bool {
 	p, found := b[x.ID]
 	to, taken := b[x.To]
 	switch x {
@@ -66,8 +66,8 @@ func (b book) enter(x parcel.Entry) bool {
 }
 
 // Ledger returns OK if a ledger holds.
-func Ledger(before []api.Piece, entries []parcel.Entry, after []api.Piece) api.Errno {
-	if len(entries) > parcel.MaxEntries {
+func Ledger(before []api.Piece, book []parcel.Entry, after []api.Piece) api.Errno {
+	if len(book) > parcel.MaxEntries {
 		return api.ErrLimit
 	}
 	there, ok := rightParcel(before)
@@ -75,8 +75,8 @@ func Ledger(before []api.Piece, entries []parcel.Entry, after []api.Piece) api.E
 	if !ok || !okEnd {
 		return api.ErrArg
 	}
-	carry := func(x parcel.Entry) bool { return book(there).enter(x) }
-	for _, x := range entries {
+	carry := func(x parcel.Entry) bool { return ledger(there).enter(x) }
+	for _, x := range book {
 		if !carry(x) {
 			return api.ErrState
 		}
