@@ -211,6 +211,12 @@ func TestApart(t *testing.T) { // P57.1, P57.4, P57.6
 			if Apart(l, append(bad, x)) != api.ErrArg {
 				t.Errorf("P57.1: %d %d", i, k)
 			}
+			for _, other := range []Witness{{x.I, x.K + 1, x.Plane}, {x.I + 1, x.K, x.Plane}} {
+				bad[k] = other
+				if Apart(l, bad) != api.ErrOrder {
+					t.Errorf("P57.1: %d %d: other pair", i, k)
+				}
+			}
 			bad[k] = Witness{x.K, x.I, x.Plane}
 			if Apart(l, bad) != api.ErrOrder || Apart(l, w[:k]) != api.ErrOrder || Apart(l, append(slices.Clone(w), x)) != api.ErrOrder {
 				t.Errorf("P57.1: %d %d: order", i, k)

@@ -119,6 +119,32 @@ func TestHardDivisions(t *testing.T) { // P1.3: digits that have to be corrected
 	}
 }
 
+func TestDifference(t *testing.T) { // P1.4: the steps of the greatest common divisor
+	r := rand.New(rand.NewSource(6))
+	for range 5000 {
+		number := func() *big.Int {
+			x := new(big.Int)
+			for range 1 + r.Intn(4) {
+				w := r.Uint64()
+				if r.Intn(3) == 0 {
+					w = math.MaxUint64 - uint64(r.Intn(3))
+				}
+				x.Lsh(x, 64).Or(x, new(big.Int).SetUint64(w))
+			}
+			return x
+		}
+		a, b := number(), number()
+		x, y := r.Uint64(), math.MaxUint64-uint64(r.Intn(5))
+		left := new(big.Int).Mul(a, new(big.Int).SetUint64(x))
+		right := new(big.Int).Mul(b, new(big.Int).SetUint64(y))
+		if left.Cmp(right) < 0 {
+			continue
+		}
+		got := difference(split(string(a.Bytes())), x, split(string(b.Bytes())), y)
+		same(t, "difference", api.Int{Mag: join(got)}, left.Sub(left, right))
+	}
+}
+
 func TestRing(t *testing.T) { // P1.2
 	l := samples()
 	for i, x := range l {

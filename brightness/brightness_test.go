@@ -205,6 +205,17 @@ func TestBounds(t *testing.T) { // P34.1, P34.2, P34.4, P34.6
 	}
 }
 
+func TestDepths(t *testing.T) { // P34.1: Bounds does not split
+	b := cube(t)
+	// Half of this cell leaks after one split.
+	l := []cell.Cell{{Face: 4, X: iv(0, one), Y: iv(0, 0), U: iv(0, one/4)}}
+	flat, e1 := Bounds(b, l, 9)
+	deep, e2 := Refined(b, l, 3, 9)
+	if e1 != api.OK || e2 != api.OK || flat != iv(0, one) || deep == flat {
+		t.Errorf("P34.1: %v %v", flat, deep)
+	}
+}
+
 func TestErrors(t *testing.T) { // P34.1
 	b := cube(t)
 	good := Grid{one, 0, 2, 1}

@@ -86,7 +86,7 @@ func TestPaths(t *testing.T) { // P21.1
 		l      []api.Vec
 		digits int
 		e      api.Errno
-	}{{nil, 0, api.ErrArg}, {nil, -1, api.ErrArg}, {append(l, api.Vec{}), 99, api.ErrArg}, {l, -1, api.ErrRange}, {l, 21, api.ErrRange}} {
+	}{{nil, 0, api.ErrArg}, {nil, -1, api.ErrArg}, {append(l, api.Vec{}), 99, api.ErrArg}, {[]api.Vec{{X: num("1"), Z: num("1")}}, 0, api.ErrArg}, {[]api.Vec{{X: num("1"), Y: num("1")}}, 0, api.ErrArg}, {[]api.Vec{{Y: num("1"), Z: num("1")}}, 0, api.ErrArg}, {l, -1, api.ErrRange}, {l, 21, api.ErrRange}} {
 		if s, e := Path(c.l, c.digits); s != "" || e != c.e {
 			t.Errorf("P21.1: %d: %v", i, e)
 		}

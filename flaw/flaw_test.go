@@ -173,6 +173,12 @@ func TestHit(t *testing.T) { // P42.5, P42.6
 			t.Errorf("P42.1: %d: %d %v", i, at, e)
 		}
 	}
+	if at, e := Hit(append(slices.Repeat(l[1:2], 19), l[0]), block()); at != 19 || e != api.OK {
+		t.Errorf("P42.1: 20 flaws: %d %v", at, e)
+	}
+	if at, e := Hit([]Flaw{{}}, block()); at != 0 || e != api.ErrArg {
+		t.Errorf("P42.1: %d %v", at, e)
+	}
 	if _, e := Hit(nil, block()); e != api.ErrNone {
 		t.Errorf("P42.1: %v", e)
 	}

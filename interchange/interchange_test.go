@@ -230,6 +230,11 @@ func TestCan(t *testing.T) { // P26.1
 	if e != api.OK || e2 != api.OK || !same(back, r) {
 		t.Errorf("P26.1: limits: %v %v", e, e2)
 	}
+	r.Facets = slices.Repeat(r.Facets[:1], 94)
+	r.Solid.Planes = slices.Repeat(r.Solid.Planes[:1], 94)
+	if !Can(r) {
+		t.Error("P26.1: 94 facets")
+	}
 	bad := parse(t, texts()[0])
 	bad.Name = "at"
 	if b, e := EncodeDesign(bad); e != api.ErrArg || b != nil {

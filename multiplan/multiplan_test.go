@@ -225,11 +225,14 @@ func TestErrors(t *testing.T) { // P46.1
 	}
 	for i, bad := range [][]Item{many, {item(0, 0, 0, -1)}, {item(0, 0, 0, MaxValue+1)}, {item(0, 0, 0, 1), {}}} {
 		_, e1 := Overlaps(bad)
-		_, e2 := Check(bad, []int{99})
-		_, _, e3 := Best(bad)
-		_, _, e4 := Greedy(bad)
+		v, e2 := Check(bad, []int{99})
+		_, w, e3 := Best(bad)
+		_, x, e4 := Greedy(bad)
 		_, e5 := Cover(bad)
-		_, e6 := Bound(bad, [][]int{{99}})
+		n, e6 := Bound(bad, [][]int{{99}})
+		if v != 0 || w != 0 || x != 0 || n != 0 {
+			t.Errorf("P46.1: %d: results", i)
+		}
 		_, e7 := Rest(bad, []int{99})
 		for k, e := range []api.Errno{e1, e2, e3, e4, e5, e6, e7} {
 			if e != api.ErrArg {

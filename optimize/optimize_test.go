@@ -204,7 +204,7 @@ func TestErrors(t *testing.T) { // P39.1
 		depth, most int
 		e           api.Errno
 	}{
-		{bad, make([]Choice, 31), iv(0, 0), brightness.Grid{}, 99, 99, api.ErrLimit}, {bad, nil, index(), grid(), 99, 99, api.ErrArg}, {d, nil, iv(one-1, one), grid(), 99, 99, api.ErrArg}, {d, nil, iv(one, 4*one+1), grid(), 0, 0, api.ErrArg}, {d, nil, iv(2*one, one), grid(), 0, 0, api.ErrArg}, {d, nil, index(), brightness.Grid{}, 99, 99, api.ErrArg}, {d, nil, index(), grid(), 13, 0, api.ErrRange}, {d, nil, index(), grid(), -1, 0, api.ErrRange}, {d, nil, index(), grid(), 0, 21, api.ErrRange}, {d, nil, index(), grid(), 0, -1, api.ErrRange}, {d, make([]Choice, 30), index(), grid(), 12, 20, api.OK},
+		{bad, make([]Choice, 31), iv(0, 0), brightness.Grid{}, 99, 99, api.ErrLimit}, {bad, nil, index(), grid(), 99, 99, api.ErrArg}, {d, nil, iv(one-1, one), grid(), 99, 99, api.ErrArg}, {d, nil, iv(one, 4*one+1), grid(), 0, 0, api.ErrArg}, {d, nil, iv(2*one, one), grid(), 0, 0, api.ErrArg}, {d, nil, index(), brightness.Grid{}, 99, 99, api.ErrArg}, {d, nil, index(), grid(), 13, 0, api.ErrRange}, {d, nil, index(), grid(), -1, 0, api.ErrRange}, {d, nil, index(), grid(), 0, 21, api.ErrRange}, {d, nil, index(), grid(), 0, -1, api.ErrRange}, {d, make([]Choice, 30), index(), grid(), 12, 20, api.OK}, {d, nil, iv(4*one, 4*one), grid(), 0, 0, api.OK}, {d, nil, iv(one, one), grid(), 0, 0, api.OK},
 	} {
 		r, e1 := Rate(c.d, c.l, c.index, c.g, c.depth, c.most)
 		s, e2 := Search(c.d, c.l, c.index, c.g, c.depth, c.most)

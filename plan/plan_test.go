@@ -264,6 +264,16 @@ func TestInvalid(t *testing.T) { // P45.1
 	if e4 := Check(p, Proof{Best: -1}); e1 != api.ErrLimit || e2 != api.ErrLimit || e3 != api.ErrLimit || e4 != api.ErrLimit {
 		t.Errorf("P45.1: %v %v %v %v", e1, e2, e3, e4)
 	}
+	p.Scales[2] = [2]int{500, 1}
+	p.Density = 1000
+	if w, v, e := Worth(p, 8); w != 1000000000 || v != 0 || e != api.OK {
+		t.Errorf("P45.1: %d %d %v", w, v, e)
+	}
+	p.Density = 1001
+	if w, _, e := Worth(p, 8); w != 0 || e != api.ErrLimit {
+		t.Errorf("P45.1: %d %v", w, e)
+	}
+	p.Density = 3520
 	p.Scales[2] = [2]int{60, 1}
 	if w, v, e := Worth(p, 8); w < 1000001 || v != 0 || e != api.OK {
 		t.Errorf("P45.1: %d %d %v", w, v, e)

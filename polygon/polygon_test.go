@@ -166,6 +166,9 @@ func TestFirst(t *testing.T) { // P6.1
 		}
 	}
 	a, b := vector.Of(0, 0, 0), vector.Of(1, 0, 0)
+	if !slices.Equal(First([]api.Vec{b}), []api.Vec{b}) || !slices.Equal(First([]api.Vec{a, a, b}), []api.Vec{a, a, b}) || len(First(nil)) != 0 {
+		t.Error("P6.1: First of few points")
+	}
 	if !slices.Equal(First([]api.Vec{b, a, b, b, a}), []api.Vec{a, b, b, a, b}) || First([]api.Vec{a, {}}) != nil || Same([]api.Vec{{}}, []api.Vec{{}}) || !Same(nil, nil) {
 		t.Error("P6.1: First")
 	}

@@ -210,7 +210,7 @@ func TestErrors(t *testing.T) { // P51.1
 	wrong := []api.Plane{{}}
 	full, _ := solid.Of(slices.Repeat(s.Planes, 17)[:100])
 	_, _, e1 := Repair(bad, nil)
-	_, _, e2 := Repair(full, wrong)
+	_, _, e0 := Repair(full, wrong)
 	_, e3 := Clean(bad, chip, nil)
 	_, e4 := Clean(s, bad, nil)
 	_, e5 := Clean(full, chip, wrong)
@@ -225,14 +225,17 @@ func TestErrors(t *testing.T) { // P51.1
 	_, _, e14 := Cheapest(full, bad)
 	_, e15 := Touched(bad, chip)
 	_, e16 := Touched(s, bad)
-	for i, e := range []api.Errno{e1, e2, e3, e4, e5, e6, e7, e8, e9, e10, e11, e12, e13, e14, e15, e16} {
+	for i, e := range []api.Errno{e1, e0, e3, e4, e5, e6, e7, e8, e9, e10, e11, e12, e13, e14, e15, e16} {
 		if e != api.ErrArg {
 			t.Errorf("P51.1: %d: %v", i+1, e)
 		}
 	}
 	one := repairs()[1]
 	_, _, e1 = Repair(full, []api.Plane{of("(0, 0, 1)", "-9")})
-	_, e2 = Clean(full, chip, one)
+	clean, e2 := Clean(full, chip, one)
+	if clean {
+		t.Error("P51.1: Clean")
+	}
 	_, e3 = Repairs(full, chip)
 	_, _, e4 = Best(full, chip, [][]api.Plane{nil, one})
 	_, _, e5 = Best(s, chip, slices.Repeat([][]api.Plane{one}, 21))

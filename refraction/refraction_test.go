@@ -223,9 +223,12 @@ func TestErrors(t *testing.T) { // P29.1
 	_, e2 := Reflect(good, bad)
 	_, e3 := Radicand(wrong, x)
 	_, e4 := Radicand(x, wrong)
-	_, e5 := Hits(bad, good, x)
-	_, e6 := Hits(good, bad, x)
-	_, e7 := Hits(good, good, wrong)
+	k1, e5 := Hits(bad, good, x)
+	k2, e6 := Hits(good, bad, x)
+	k3, e7 := Hits(good, good, wrong)
+	if k1 != 0 || k2 != 0 || k3 != 0 {
+		t.Error("P29.1: Hits")
+	}
 	_, _, _, e8 := Refract(bad, good, x)
 	_, _, _, e9 := Refract(good, bad, x)
 	_, _, _, e10 := Refract(good, good, wrong)

@@ -214,7 +214,10 @@ func TestErrors(t *testing.T) { // P55.1
 		b, e2 := Paths(p)
 		_, e3 := Bound(p)
 		c, e4 := ByDue(p)
-		d, _, e5 := Best(p)
+		d, late, e5 := Best(p)
+		if late != 0 {
+			t.Errorf("P55.1: %d: %d", i, late)
+		}
 		if Valid(p) || Check(p, nil) != api.ErrArg || e1 != api.ErrArg || e2 != api.ErrArg || e3 != api.ErrArg || e4 != api.ErrArg || e5 != api.ErrArg || a != nil || b != nil || c != nil || d != nil {
 			t.Errorf("P55.1: %d", i)
 		}

@@ -189,6 +189,11 @@ func TestFactor(t *testing.T) { // P24.5
 			t.Errorf("P24.1: %v: %v", c, e)
 		}
 	}
+	for _, a := range []int{1001, 9999} {
+		if n, d, e := Factor(a, a); n != 1 || d != 1 || e != api.OK {
+			t.Errorf("P24.5: %d: %d/%d %v", a, n, d, e)
+		}
+	}
 	if n, d, e := Factor(1544, 1762); n != 81 || d != 100 || e != api.OK {
 		t.Errorf("P24.5: %d/%d", n, d)
 	}

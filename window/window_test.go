@@ -275,7 +275,7 @@ func TestErrors(t *testing.T) { // P35.1
 		g    brightness.Grid
 		most int
 		e    api.Errno
-	}{{trace.Body{}, g, -1, api.ErrArg}, {cube(t), brightness.Grid{}, -1, api.ErrArg}, {cube(t), g, -1, api.ErrRange}, {cube(t), g, 21, api.ErrRange}, {brilliant(t), brightness.Grid{Half: interval.Max, Cone: 0, Steps: 1, Turns: 1}, 0, api.ErrLimit}} {
+	}{{trace.Body{}, g, -1, api.ErrArg}, {cube(t), brightness.Grid{}, -1, api.ErrArg}, {cube(t), g, -1, api.ErrRange}, {cube(t), g, 21, api.ErrRange}, {cube(t), brightness.Grid{Half: 60 * one, Cone: 0, Steps: 1, Turns: 1}, -1, api.ErrRange}, {cube(t), brightness.Grid{Half: 60 * one, Cone: 0, Steps: 1, Turns: 1}, 21, api.ErrRange}, {brilliant(t), brightness.Grid{Half: interval.Max, Cone: 0, Steps: 1, Turns: 1}, 0, api.ErrLimit}} {
 		if m, e := Of(c.b, c.g, c.most); e != c.e || !reflect.DeepEqual(m, Map(nil)) {
 			t.Errorf("P35.1: %d: %v", i, e)
 		}

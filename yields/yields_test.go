@@ -246,7 +246,7 @@ func TestPercent(t *testing.T) { // P56.1
 func TestErrors(t *testing.T) { // P56.1
 	good := Record{"a", "m", 10, 5, 0}
 	many := slices.Repeat([]Record{good}, 201)
-	if !Valid(many[:200]) || !Valid(nil) {
+	if !Valid(many[:200]) || !Valid(nil) || !Valid([]Record{{"a", "m", 5, 5, 100000}, {"a", "m", 1, 1, 0}}) {
 		t.Error("P56.1: valid")
 	}
 	for i, bad := range [][]Record{many, {{"at", "m", 1, 1, 0}}, {{"a", "", 1, 1, 0}}, {good, {"a", "m", 0, 0, 0}}, {{"a", "m", 1000001, 1, 0}}, {{"a", "m", 5, 0, 0}}, {{"a", "m", 5, 6, 0}}, {{"a", "m", 5, 5, -1}}, {{"a", "m", 5, 5, 100001}}} {
