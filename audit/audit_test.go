@@ -125,6 +125,22 @@ func TestSolids(t *testing.T) { // P57.1, P57.2, W13
 			}
 		}
 	}
+	// Vertices in another order, with all loops changed accordingly.
+	turned := clone.Solid(block("(0, 0, 0)"))
+	turned.Verts[0], turned.Verts[1] = turned.Verts[1], turned.Verts[0]
+	for i := range turned.Faces {
+		loop := turned.Faces[i].Loop
+		for k, v := range loop {
+			if v < 2 {
+				loop[k] = 1 - v
+			}
+		}
+		least := slices.Index(loop, slices.Min(loop))
+		turned.Faces[i].Loop = slices.Concat(loop[least:], loop[:least])
+	}
+	if Solid(turned) != api.ErrProof {
+		t.Error("P57.2: order of vertices")
+	}
 	// A repeated plane must not have the face of the first one.
 	s := clone.Solid(block("(0, 0, 0)"))
 	s.Planes = append(s.Planes, s.Planes[0])
@@ -226,6 +242,15 @@ func TestApart(t *testing.T) { // P57.1, P57.4, P57.6
 	if results[api.OK] < 5 || results[api.ErrOverlap] < 5 {
 		t.Errorf("one-sided test: %v", results)
 	}
+	row := []api.Solid{}
+	for i := range 12 {
+		s, _ := solid.Shift(block("(0, 0, 0)"), vector.Of(2*i, 0, 0))
+		row = append(row, s)
+	}
+	w, e := Witnesses(row)
+	if e != api.OK || Apart(row, w) != api.OK || len(w) != 66 {
+		t.Errorf("P57.1: 12 solids: %v", e)
+	}
 	many := slices.Repeat([]api.Solid{{}}, 13)
 	_, e1 := Witnesses(many)
 	_, e2 := Witnesses(many[:1])
@@ -317,7 +342,7 @@ func TestLedger(t *testing.T) { // P57.5
 		book   []parcel.Entry
 		after  []api.Piece
 		e      api.Errno
-	}{{bad, make([]parcel.Entry, 201), nil, api.ErrLimit}, {bad, make([]parcel.Entry, 200), nil, api.ErrArg}, {nil, make([]parcel.Entry, 200), bad, api.ErrArg}, {full, nil, full, api.ErrArg}, {full[:100], nil, full[:100], api.OK}, {full[:100], []parcel.Entry{in}, nil, api.ErrState}, {full[:100], []parcel.Entry{part}, nil, api.ErrState}, {nil, make([]parcel.Entry, 200), nil, api.ErrState}, {nil, nil, nil, api.OK}, {before(), []parcel.Entry{{Kind: parcel.Join, ID: "c", To: "a"}}, nil, api.ErrState}, {nil, []parcel.Entry{{Kind: parcel.In, Piece: piece("z", "m", 0, 1)}}, nil, api.ErrState}} {
+	}{{bad, make([]parcel.Entry, 201), nil, api.ErrLimit}, {bad, make([]parcel.Entry, 200), nil, api.ErrArg}, {nil, make([]parcel.Entry, 200), bad, api.ErrArg}, {full, nil, full, api.ErrArg}, {full[:100], nil, full[:100], api.OK}, {full[:100], []parcel.Entry{in}, nil, api.ErrState}, {full[:99], []parcel.Entry{in}, append(slices.Clone(full[:99]), in.Piece), api.OK}, {full[:100], []parcel.Entry{part}, nil, api.ErrState}, {nil, make([]parcel.Entry, 200), nil, api.ErrState}, {nil, nil, nil, api.OK}, {before(), []parcel.Entry{{Kind: parcel.Join, ID: "c", To: "a"}}, nil, api.ErrState}, {nil, []parcel.Entry{{Kind: parcel.In, Piece: piece("z", "m", 0, 1)}}, nil, api.ErrState}} {
 		if e := Ledger(c.before, c.book, c.after); e != c.e {
 			t.Errorf("P57.1: %d: %v", i, e)
 		}

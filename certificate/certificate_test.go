@@ -182,6 +182,11 @@ func TestErrors(t *testing.T) { // P19.1
 	if s, _ := Solid(cut, x); !solid.Valid(s) {
 		t.Error("P19.1: solid")
 	}
+	// The certificate of another depth has a valid solid, but not the depth of this design.
+	other, _, _ := Of(parse(t, "design pyramid order 4 tier B angle 0/-1 at 0 depth 0 tier C angle 1/1 at 0 depth 2"))
+	if s, e := Solid(d, other); !solid.Valid(s) || e != api.OK || Check(d, other) != api.ErrProof {
+		t.Errorf("P19.2: other depth: %v", Check(d, other))
+	}
 	if !Equal(Certificate{}, Certificate{Loops: [][]int{}}) {
 		t.Error("P19.1: nil and empty")
 	}

@@ -85,6 +85,9 @@ func TestIndex(t *testing.T) { // P37.1, P37.2
 	if x, _ := Index([]Entry{{400, 200000}, {600, 180000}}, 450); !encloses(x, big.NewRat(195, 100)) {
 		t.Errorf("P37.2: example: %v", x)
 	}
+	if x, e := Index([]Entry{{3000, 100000}}, 3000); x != iv(one, one) || e != api.OK {
+		t.Errorf("P37.2: %v", x)
+	}
 	if x, e := Index([]Entry{{100, 400000}}, 100); x != iv(4*one, 4*one) || e != api.OK {
 		t.Errorf("P37.2: %v", x)
 	}

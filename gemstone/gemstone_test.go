@@ -195,6 +195,13 @@ func TestTexts(t *testing.T) { // P40.6
 	if e != api.OK || e2 != api.OK || at != 0 || !slices.Equal(l, table()) || lines[4] != "quartz 2650 1544 70" {
 		t.Errorf("P40.6: %v %v %v", lines, e, e2)
 	}
+	many := []string{}
+	for i := range 100 {
+		many = append(many, "m"+strconv.Itoa(100+i)+" 1 1000 1")
+	}
+	if l, _, e := Parse(many); len(l) != 100 || e != api.OK {
+		t.Errorf("P40.6: 100 lines: %v", e)
+	}
 	if l, at, e := Parse(nil); len(l) != 0 || at != 0 || e != api.OK {
 		t.Errorf("P40.6: %v", e)
 	}

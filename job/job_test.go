@@ -252,7 +252,7 @@ func TestOf(t *testing.T) { // P54.1, P54.6
 		events []Event
 		at     int
 		e      api.Errno
-	}{{bad, many, 0, api.ErrLimit}, {bad, many[:1], 0, api.ErrArg}, {nil, many[:1], 0, api.ErrArg}, {pieces(), []Event{accept(1, order("j", "a", 1, 1)), event(Start, 0, "j", 0)}, 1, api.ErrOrder}} {
+	}{{bad, many, 0, api.ErrLimit}, {bad, many[:1], 0, api.ErrArg}, {nil, many[:1], 0, api.ErrArg}, {nil, many[:200], 0, api.ErrArg}, {pieces(), []Event{accept(1, order("j", "a", 1, 1)), event(Start, 0, "j", 0)}, 1, api.ErrOrder}} {
 		if s, at, e := Of(c.l, c.events); at != c.at || e != c.e || !Equal(s, Shop{}) {
 			t.Errorf("P54.1: %d: %d %v", i, at, e)
 		}

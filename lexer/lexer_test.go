@@ -174,7 +174,7 @@ func TestWords(t *testing.T) { // P13.1
 			t.Errorf("P13.1: %s", s)
 		}
 	}
-	for _, s := range []string{"a", "Z", "a-", "a_9", "r2", strings.Repeat("b", 30)} {
+	for _, s := range []string{"a", "Z", "A", "z", "a-", "a_9", "r2", "b0", "aA", strings.Repeat("b", 30)} {
 		if !IsName(s) {
 			t.Errorf("P13.1: %s", s)
 		}

@@ -160,6 +160,10 @@ func TestDo(t *testing.T) { // P53.1
 	if a != piece("a", "ruby", 400, 1) || n != piece("n", "ruby", 100, 1) {
 		t.Errorf("P53.1: %v %v", a, n)
 	}
+	most := []api.Piece{piece("a", "ruby", 999999, 999), piece("b", "ruby", 1, 1)}
+	if l, e := Do(most, Entry{Kind: Join, ID: "a", To: "b"}); e != api.OK || !slices.Equal(l, []api.Piece{piece("b", "ruby", 1000000, 1000)}) {
+		t.Errorf("P53.1: %v %v", l, e)
+	}
 	l, _ = Do(parcel(), Entry{Kind: Join, ID: "a", To: "Z"})
 	z, _ := Find(l, "Z")
 	if _, found := Find(l, "a"); z != piece("Z", "ruby", 505, 7) || found {

@@ -32,7 +32,7 @@ func points() []api.Vec {
 func settings() []api.Setting {
 	l := []api.Setting{{H: 0, V: 1}, {H: 0, V: -1}}
 	for i := range 24 {
-		for _, a := range [][2]int{{1, 0}, {4, 3}, {1, -1}, {1000, 999}, {7, -1000}} {
+		for _, a := range [][2]int{{1, 0}, {4, 3}, {1, -1}, {1000, 999}, {7, -1000}, {3, 1000}, {1, 1}} {
 			l = append(l, api.Setting{H: a[0], V: a[1], Index: i})
 		}
 	}

@@ -129,6 +129,7 @@ func TestFaults(t *testing.T) { // P18.1
 		{"design x order 4 tier a angle 0/1 at 0 depth 9 tier B angle 0/-1 at 0 depth 0 tier C angle 1/1 at 0 depth 1 tier D angle 2/1 at 0 depth 9", 0, api.ErrNone, true, false},
 		{pyramid + " tier D angle 2/1 at 0 depth 2", 2, api.ErrNone, true, false},
 		{cube + ` tier c angle 1/1 at 3 through "r2" "r2" 0`, 3, api.ErrMeet, true, false},
+		{cube + ` tier c angle 1/1 at 3 through "3/2" "1/2" "2-r2"`, 3, api.ErrMeet, true, false},
 		{cube + " tier c angle 1/1 at 0 edge side:0 side:6 height 2", 3, api.ErrNone, true, false},
 		{cube + ` tier c angle 1/1 at 3 edge side:0 side:6 height "9/10" tier d angle 2/1 at 3 through 3 3 "-7"`, 3, api.ErrNone, true, false},
 		{cube + ` tier c angle 1/1 at 3 edge side:0 side:6 height "9/10" tier d angle 2/1 at 3 edge side:0 side:6 height "19/20"`, 4, api.ErrNone, true, false},

@@ -2,7 +2,6 @@ package saw
 
 import (
 	"math/rand"
-	"reflect"
 	"slices"
 	"testing"
 
@@ -260,7 +259,16 @@ func TestErrors(t *testing.T) { // P47.1
 			t.Errorf("P47.1: %d: %v %v %v", i, e1, e2, e3)
 		}
 	}
-	if !reflect.DeepEqual(lists()[0], lists()[0]) {
-		t.Error("lists")
+	row := []api.Solid{}
+	for i := range 8 {
+		row = append(row, block(2*i, 0, 0))
+	}
+	faces, e := Faces(row)
+	plan, e2 := Build(row, faces)
+	if e != api.OK || e2 != api.OK || len(plan) != 7 || Check(row, plan) != api.OK {
+		t.Errorf("P47.1: 8 stones: %v %v", e, e2)
+	}
+	if side, e := Place(bad, p); side != 0 || e != api.ErrArg {
+		t.Errorf("P47.1: %d %v", side, e)
 	}
 }

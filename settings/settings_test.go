@@ -22,7 +22,7 @@ func invalid() []api.Setting {
 }
 
 func TestSides(t *testing.T) { // P48.1
-	for s, want := range map[api.Setting]int{set(0, 1, 0): Table, set(0, -1, 0): Culet, set(1, 0, 3): Girdle, set(4, 3, 3): Crown, set(4, -3, 3): Pavilion} {
+	for s, want := range map[api.Setting]int{set(0, 1, 0): Table, set(0, -1, 0): Culet, set(1, 0, 3): Girdle, set(4, 3, 3): Crown, set(1, 1, 7): Crown, set(4, -3, 3): Pavilion, set(1, -1, 3): Pavilion} {
 		if Side(s) != want || !Valid(s) {
 			t.Errorf("P48.1: %v: %d", s, Side(s))
 		}

@@ -194,6 +194,9 @@ func TestFactor(t *testing.T) { // P24.5
 			t.Errorf("P24.5: %d: %d/%d %v", a, n, d, e)
 		}
 	}
+	if n, d, e := Factor(6708, 1200); n != 10 || d != 1 || e != api.OK {
+		t.Errorf("P24.5: %d/%d %v", n, d, e)
+	}
 	if n, d, e := Factor(1544, 1762); n != 81 || d != 100 || e != api.OK {
 		t.Errorf("P24.5: %d/%d", n, d)
 	}

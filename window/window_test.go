@@ -138,6 +138,9 @@ func TestOf(t *testing.T) { // P35.1, P35.6
 		t.Errorf("one-sided test: %v", kinds)
 	}
 	m, _ := Of(cube(t), brightness.Grid{Half: one, Cone: 0, Steps: 2, Turns: 1}, 5)
+	if m, e := Of(cube(t), brightness.Grid{Half: one, Cone: 0, Steps: 2, Turns: 1}, 20); e != api.OK || len(m) != 2 {
+		t.Errorf("P35.1: %v", e)
+	}
 	lines, _ := Draw(m)
 	n, _ := Regions(m, trace.Leaks)
 	if !slices.Equal(lines, []string{"LL", "LL"}) || n != 1 {
@@ -275,7 +278,7 @@ func TestErrors(t *testing.T) { // P35.1
 		g    brightness.Grid
 		most int
 		e    api.Errno
-	}{{trace.Body{}, g, -1, api.ErrArg}, {cube(t), brightness.Grid{}, -1, api.ErrArg}, {cube(t), g, -1, api.ErrRange}, {cube(t), g, 21, api.ErrRange}, {cube(t), brightness.Grid{Half: 60 * one, Cone: 0, Steps: 1, Turns: 1}, -1, api.ErrRange}, {cube(t), brightness.Grid{Half: 60 * one, Cone: 0, Steps: 1, Turns: 1}, 21, api.ErrRange}, {brilliant(t), brightness.Grid{Half: interval.Max, Cone: 0, Steps: 1, Turns: 1}, 0, api.ErrLimit}} {
+	}{{trace.Body{}, g, -1, api.ErrArg}, {cube(t), brightness.Grid{}, -1, api.ErrArg}, {cube(t), g, -1, api.ErrRange}, {cube(t), g, 21, api.ErrRange}, {roof(t), brightness.Grid{Half: 60 * one, Cone: 0, Steps: 1, Turns: 1}, 99, api.ErrRange}, {cube(t), brightness.Grid{Half: 60 * one, Cone: 0, Steps: 1, Turns: 1}, -1, api.ErrRange}, {cube(t), brightness.Grid{Half: 60 * one, Cone: 0, Steps: 1, Turns: 1}, 21, api.ErrRange}, {brilliant(t), brightness.Grid{Half: interval.Max, Cone: 0, Steps: 1, Turns: 1}, 0, api.ErrLimit}} {
 		if m, e := Of(c.b, c.g, c.most); e != c.e || !reflect.DeepEqual(m, Map(nil)) {
 			t.Errorf("P35.1: %d: %v", i, e)
 		}
