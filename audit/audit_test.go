@@ -100,6 +100,7 @@ func spoiled(s api.Solid) (l []api.Solid) {
 	change(func(s *api.Solid) { s.Faces[0].Plane = -1 })
 	change(func(s *api.Solid) { s.Faces[last].Plane = len(s.Planes) })
 	change(func(s *api.Solid) { s.Faces[1] = s.Faces[0] })
+	change(func(s *api.Solid) { s.Faces = append(s.Faces[:1:1], s.Faces...) })
 	change(func(s *api.Solid) { s.Faces[0].Loop[0] = 99 })
 	change(func(s *api.Solid) { s.Faces[0].Loop[1] = -1 })
 	change(func(s *api.Solid) { s.Faces[0].Loop = nil })
@@ -124,6 +125,10 @@ func TestSolids(t *testing.T) { // P57.1, P57.2, W13
 				t.Errorf("P57.2: %d %d", i, k)
 			}
 		}
+	}
+	full, _ := solid.Of(slices.Repeat(block("(0, 0, 0)").Planes, 17)[:100])
+	if Solid(full) != api.OK || len(full.Planes) != 100 {
+		t.Error("P57.2: 100 planes")
 	}
 	// Vertices in another order, with all loops changed accordingly.
 	turned := clone.Solid(block("(0, 0, 0)"))

@@ -190,6 +190,13 @@ func TestErrors(t *testing.T) { // P19.1
 	if !Equal(Certificate{}, Certificate{Loops: [][]int{}}) {
 		t.Error("P19.1: nil and empty")
 	}
+	// The same with a point that is outside of one facet alone.
+	cut = parse(t, `design cube order 4 tier top angle 0/1 at 0 depth 1 tier bottom angle 0/-1 at 0 depth 1 tier side angle 1/0 at 0 depth 1 tier c angle 1/1 at 3 through "3/2" "1/2" "2-r2"`)
+	fixed, _, _ = resolve.Fixed(cut)
+	x, _, e = Of(fixed)
+	if e != api.OK || Check(fixed, x) != api.OK || Check(cut, x) != api.ErrProof {
+		t.Errorf("P19.2: point outside: %v", Check(cut, x))
+	}
 	unknown := parse(t, "design x order 4 tier C angle 1/1 at 0 depth 1 tier T angle 0/1 at 0 meet C:0 C:6 C:6")
 	if e := Check(unknown, Certificate{Depths: []api.Num{num("1"), num("1")}, Loops: make([][]int, 5)}); e != api.ErrProof {
 		t.Errorf("P19.2: %v", e)

@@ -242,7 +242,7 @@ func TestSymmetric(t *testing.T) { // P36.5
 }
 
 func TestErrors(t *testing.T) { // P36.1
-	good, bad := window.Map{{1, 2}}, window.Map{{4}}
+	good, bad := window.Map{{1, 2}}, window.Map{{4, 1}}
 	_, e1 := Of(bad)
 	_, e2 := Change(good, bad)
 	_, e3 := Change(bad, good)

@@ -196,6 +196,21 @@ func TestLimit(t *testing.T) { // P16.3
 	if at, e := Check(d); at != 4 || e != api.ErrLimit {
 		t.Errorf("P16.1: %d %v", at, e)
 	}
+	d = api.Design{Name: "x", Order: 1}
+	for i := range 4 {
+		x := api.Tier{Name: string(rune('a' + i)), H: 1, V: i, Fix: parse(t, "design y order 1 tier e angle 2/1 at 0 depth 1").Tiers[0].Fix}
+		for k := range 24 - i/3*2 {
+			x.Indices = append(x.Indices, k)
+		}
+		d.Tiers = append(d.Tiers, x)
+	}
+	if l, e := Facets(d); len(l) != 94 || e != api.OK {
+		t.Errorf("P16.3: %d facets: %v", len(l), e)
+	}
+	d.Tiers[3].Indices = append(d.Tiers[3].Indices, 22)
+	if at, e := Check(d); at != 3 || e != api.ErrLimit {
+		t.Errorf("P16.3: 95 facets: %d %v", at, e)
+	}
 	// A number that is too long for a text is no fault.
 	d = parse(t, stone)
 	x, _ := field.Parse(strings.Repeat("9", 60))

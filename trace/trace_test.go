@@ -196,6 +196,9 @@ func TestHit(t *testing.T) { // P31.1, P31.2
 	if _, _, e := Hit(b, Ray{exact(0, 0, 0), direction.Dir{X: iv(-1, 1), Y: iv(0, 0), Z: iv(0, 0)}}); e != api.ErrAmbiguous {
 		t.Errorf("P31.1: %v", e)
 	}
+	if _, _, e := Hit(b, Ray{exact(0, 0, 0), exact(one, 0, one)}); e != api.ErrAmbiguous {
+		t.Errorf("P31.1: two faces at once: %v", e)
+	}
 	if f, l, e := Hit(b, Ray{exact(0, 0, 3*one), exact(0, 0, one)}); f != 4 || l != iv(0, 0) || e != api.OK {
 		t.Errorf("P31.1: %d %v %v", f, l, e)
 	}

@@ -232,6 +232,11 @@ func TestErrors(t *testing.T) { // P24.1
 			t.Errorf("P24.1: %v: %v", s, e)
 		}
 	}
+	for _, c := range []struct{ h, v, n, d, wh, wv int }{{500, 1, 2, 1, 1000, 1}, {1, 500, 1, 2, 1, 1000}, {1000, 1, 1, 1, 1000, 1}} {
+		if f, e := Facet(api.Facet{At: api.Setting{H: c.h, V: c.v}, Depth: num("1")}, Stretch{1, num("0"), c.n, c.d}); e != api.OK || f.At.H != c.wh || f.At.V != c.wv {
+			t.Errorf("P24.1: %v: %v %v", c, f, e)
+		}
+	}
 	if f, e := Facet(steep, Stretch{1, num("0"), 1000, 1}); e != api.ErrAngle {
 		t.Errorf("P24.1: %v %v", f, e)
 	}
