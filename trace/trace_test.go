@@ -326,6 +326,58 @@ func TestEnter(t *testing.T) { // P31.1, P31.4
 	}
 }
 
+// plainLight is the light that enters, by the absolute values of the cosines of Refract.
+func plainLight(b Body, face int, d direction.Dir) (api.Interval, api.Errno) {
+	ratio, _ := interval.Div(iv(one, one), b.Index)
+	_, before, after, e := refraction.Refract(d, b.Normals[face], ratio)
+	if e != api.OK {
+		return api.Interval{}, e
+	}
+	if before.Lo > 0 {
+		return api.Interval{}, api.ErrState
+	}
+	cut := func(x api.Interval) api.Interval { return iv(max(0, min(-x.Hi, one)), max(0, min(-x.Lo, one))) }
+	return fresnel.Transmittance(fresnel.Surface{Before: cut(before), After: cut(after), From: iv(one, one), To: b.Index})
+}
+
+func TestGrazing(t *testing.T) { // P31.1, P31.3, P31.4
+	b := cube(t, 10)
+	// The cosine after is from -4096 units to 0: with a lesser one before, the quotient of layer 30 is beyond the limits.
+	for _, k := range []int{1, 2, 3, 5, 63, 400} {
+		if in, light, e := Enter(b, 0, Ray{exact(0, 0, 0), exact(-k, 0, one)}); in != (Ray{}) || light != (api.Interval{}) || e != api.ErrLimit {
+			t.Errorf("P31.1: %d: %v %v %v", k, in, light, e)
+		}
+	}
+	for _, k := range []int{500, 1000, 2000, 4000} {
+		if _, light, e := Enter(b, 0, Ray{exact(0, 0, 0), exact(-k, 0, one)}); light != iv(0, one) || e != api.OK {
+			t.Errorf("P31.1: %d: %v %v", k, light, e)
+		}
+	}
+	r := rand.New(rand.NewSource(5))
+	seen := map[api.Errno]int{}
+	for i := range 2000 {
+		b.Index = iv(one, one+r.Intn(3)*r.Intn(1<<(i%20)))
+		c := r.Intn(1<<(i%24)) + 1
+		d := direction.Dir{X: iv(-c-r.Intn(c), -c), Y: iv(0, 0), Z: iv(one, one)}
+		in, light, e := Enter(b, 0, Ray{exact(1, 2, 3), d})
+		want, fault := plainLight(b, 0, d)
+		if light != want || e != fault {
+			t.Fatalf("P31.1: %v: %v %v, want %v %v", d, light, e, want, fault)
+		}
+		seen[e]++
+		if e != api.OK {
+			continue
+		}
+		small, part, e := Enter(b, 0, Ray{exact(1, 2, 3), partOf(r, d)})
+		if e != api.OK || !direction.Inside(small.Dir, in.Dir) || !interval.Inside(part, light) || light.Lo < 0 || light.Hi > one {
+			t.Fatalf("P31.3: %v: %v %v %v", d, part, light, e)
+		}
+	}
+	if seen[api.OK] < 100 || seen[api.ErrLimit] < 100 {
+		t.Errorf("P31.1: %v", seen)
+	}
+}
+
 func TestBodies(t *testing.T) { // P31.1
 	s, _ := solid.Block(3)
 	b, e := Prepare(s, iv(one, 4*one))
