@@ -4,6 +4,7 @@ import (
 	"math/rand"
 	"reflect"
 	"slices"
+	"strings"
 	"testing"
 
 	"culet/api"
@@ -217,7 +218,19 @@ func TestParse(t *testing.T) { // P38.1, P38.5
 			t.Errorf("P38.1: %q: %d %v", s, at, e)
 		}
 	}
-	for i, lines := range [][]string{nil, {"leaks", "leaks"}, {"split x", "leaks"}} {
+	for _, kind := range []string{"returns", "leaks", "unknown"} {
+		most, more := kind+strings.Repeat(" 1", 21), kind+strings.Repeat(" 1", 22)
+		if l, at, e := Parse([]string{most}); len(l) != 1 || len(l[0].Faces) != 21 || at != 0 || e != api.OK {
+			t.Errorf("P38.1: 21 faces: %v %d %v", l, at, e)
+		}
+		for i, lines := range [][]string{{more}, {most, more}, {"split x", most, more}, {"leaks", "leaks", "leaks", most + " 1 2 3", ""}} {
+			if l, at, e := Parse(lines); l != nil || at != i || e != api.ErrSyntax {
+				t.Errorf("P38.1: more than 21 faces: %d: %d %v", i, at, e)
+			}
+		}
+	}
+	many := slices.Concat(slices.Repeat([]string{"split u"}, MaxNodes/2), slices.Repeat([]string{"leaks 5"}, MaxNodes/2+1))
+	for i, lines := range [][]string{nil, {"leaks", "leaks"}, {"split x", "leaks"}, many} {
 		if l, at, e := Parse(lines); l != nil || at != 0 || e != api.ErrArg {
 			t.Errorf("P38.1: %d: %d %v", i, at, e)
 		}
